@@ -5,8 +5,12 @@ import inspect
 import unittest
 
 from tests.helper import HARBOUR, SHIPS
+from tidewaits import rules
+from tidewaits.best import after_moves, best_plan, least_cost, moves_in, shows_best, table_of
+from tidewaits.chances import mean_cost
 from tidewaits.errors import BadText
 from tidewaits.harbours import cost_of, hour_costs, wrong_in
+from tidewaits.late import first_states, moves_of, states_behind, sure_cost
 from tidewaits.texts import read_harbour, read_plan, timetable
 from tidewaits.tides import cheapest, greatest_wait, soonest, tides
 
@@ -38,6 +42,57 @@ FUNCTIONS = {
         "read_plan": ["harbour", "ships", "text"],
         "timetable": ["harbour", "ships", "plan"],
     },
+    "best": {
+        "beginning": ["ships"],
+        "moves_in": ["harbour", "ships", "state", "*latest=None"],
+        "cost_in": ["ships", "state", "moves"],
+        "after_moves": ["ships", "state", "moves"],
+        "rest_of": ["harbour", "ships", "state", "*latest=None"],
+        "best_moves": ["harbour", "ships", "state", "*latest=None"],
+        "least_cost": ["harbour", "ships", "*latest=None"],
+        "best_plan": ["harbour", "ships", "*latest=None"],
+        "count_plans": ["harbour", "ships", "*latest=None"],
+        "count_best": ["harbour", "ships", "*latest=None"],
+        "table_of": ["harbour", "ships", "*latest=None"],
+        "is_table": ["harbour", "ships", "table", "*latest=None"],
+        "shows_best": ["harbour", "ships", "plan", "table", "*latest=None"],
+        "shows_none": ["harbour", "ships", "table", "*latest=None"],
+    },
+    "rules": {
+        "order_of": ["ships", "rule"],
+        "plan_by": ["harbour", "ships", "order"],
+        "price_of": ["harbour", "ships", "order"],
+        "best_orders": ["harbour", "ships"],
+        "parting": ["harbour", "ships", "plan"],
+    },
+    "late": {
+        "check_spans": ["ships", "spans"],
+        "ships_at": ["ships", "coming"],
+        "comings_of": ["ships", "spans"],
+        "first_states": ["ships", "spans"],
+        "moves_of": ["harbour", "ships", "state"],
+        "cost_of_move": ["ships", "state", "move"],
+        "is_end": ["state", "move"],
+        "states_behind": ["harbour", "ships", "spans", "state", "move"],
+        "sure_cost": ["harbour", "ships", "spans"],
+        "sure_table": ["harbour", "ships", "spans"],
+        "sure_rule": ["harbour", "ships", "spans"],
+        "is_sure_upper": ["harbour", "ships", "spans", "rows"],
+        "is_sure_lower": ["harbour", "ships", "spans", "rows"],
+        "plan_by": ["harbour", "ships", "rule", "coming"],
+        "cost_by": ["harbour", "ships", "rule", "coming"],
+        "worst_coming": ["harbour", "ships", "spans", "rule"],
+    },
+    "chances": {
+        "check_chances": ["ships", "chances"],
+        "spans_of": ["chances"],
+        "chance_of": ["ships", "chances", "coming"],
+        "mean_cost": ["harbour", "ships", "chances"],
+        "mean_table": ["harbour", "ships", "chances"],
+        "is_mean_upper": ["harbour", "ships", "chances", "rows"],
+        "is_mean_lower": ["harbour", "ships", "chances", "rows"],
+        "mean_of": ["harbour", "ships", "rule", "chances"],
+    },
 }
 CLASSES = {
     "TideError": None,
@@ -57,8 +112,13 @@ CLASSES = {
 
 
 def arguments_of(function):
-    marks = {inspect.Parameter.KEYWORD_ONLY: "*"}
-    return [marks.get(part.kind, "") + name for name, part in inspect.signature(function).parameters.items()]
+    """The names of the arguments, behind a star if they are handed in by name alone, and with what they are if not."""
+    found = []
+    for name, part in inspect.signature(function).parameters.items():
+        mark = "*" if part.kind == inspect.Parameter.KEYWORD_ONLY else ""
+        default = "" if part.default is inspect.Parameter.empty else f"={part.default}"
+        found.append(mark + name + default)
+    return found
 
 
 class NamesTest(unittest.TestCase):
@@ -104,6 +164,31 @@ class ExamplesTest(unittest.TestCase):
         with self.assertRaises(BadText) as caught:
             read_harbour("tide 9 7\nberths  5\n")
         self.assertEqual((caught.exception.line, caught.exception.column), (2, 8))
+
+    def test_best(self):
+        self.assertEqual((least_cost(HARBOUR, SHIPS), best_plan(HARBOUR, SHIPS)), (10, [(0, 0, 3), (4, 0, 8)]))
+        state = (3, ((0, 0), (-1, 0)))
+        self.assertEqual(moves_in(HARBOUR, SHIPS, state), [(), ((0, -1),)])
+        self.assertEqual(after_moves(SHIPS, state, ((0, -1),)), (4, ((-2, 0), (-1, 0))))
+        self.assertIsNone(least_cost(HARBOUR, SHIPS, latest=[None, 7]))
+        self.assertIs(shows_best(HARBOUR, SHIPS, [(0, 0, 3), (4, 0, 8)], table_of(HARBOUR, SHIPS)), True)
+
+    def test_rules(self):
+        self.assertEqual(rules.order_of(SHIPS, "short"), [1, 0])
+        self.assertEqual(rules.plan_by(HARBOUR, SHIPS, [0, 1]), [(0, 0, 3), (4, 0, 8)])
+        self.assertEqual(rules.price_of(HARBOUR, SHIPS, [0, 1]), 0)
+        self.assertEqual(rules.best_orders(HARBOUR, SHIPS), [[0, 1], [1, 0]])
+        self.assertEqual(rules.parting(HARBOUR, SHIPS, [(0, 0, 5), (8, 0, 12)]), 3)
+
+    def test_late(self):
+        self.assertEqual(first_states(SHIPS, [1, 0]), [(0, ((0,), (0,))), (0, ((1,), (0,)))])
+        self.assertEqual(moves_of(HARBOUR, SHIPS, (0, ((1,), (0,)))), [(-1, -1), (0, -1)])
+        behind = states_behind(HARBOUR, SHIPS, [1, 0], (0, ((1,), (0,))), (0, -1))
+        self.assertEqual(behind, [(1, ((2, 0, 2), (1,)))])
+        self.assertEqual((sure_cost(HARBOUR, SHIPS, [0, 0]), sure_cost(HARBOUR, SHIPS, [1, 0])), (10, 18))
+
+    def test_chances(self):
+        self.assertEqual(mean_cost(HARBOUR, SHIPS, [[(1, 4), (3, 4)], [(1, 1)]]), (16, 1))
 
 
 if __name__ == "__main__":

@@ -4,11 +4,20 @@ import copy
 import unittest
 
 from tests.helper import HARBOUR, PLAN, SHIPS
-from tidewaits import harbours, texts, tides
+from tidewaits import best, chances, harbours, late, rules, texts, tides
 from tidewaits.errors import Clash
 
 TEXT = "tide 9 7 4 7\nberths 5\ntugs 2\npilots 1\nlast 20\nship 0 5 6 2 1 3 1\nship 1 4 8 1 2 2 2\n"
 SHIP = (1, 4, 7, 3, 2, 1, 5)
+LATEST = [None, 12]
+STATE = (3, ((0, 0), (-1, 0)))
+SPANS = [1, 2]
+CHANCES = [[(1, 4), (3, 4)], [(1, 2), (0, 1), (1, 2)]]
+# A state of ships that come when they come, and what belongs to it.
+REACHED = (0, ((1,), (0,)))
+RULE = late.sure_rule(HARBOUR, SHIPS, SPANS)
+SURE = late.sure_table(HARBOUR, SHIPS, SPANS)
+MEANS = chances.mean_table(HARBOUR, SHIPS, CHANCES)
 CALLS = [
     (harbours.check_harbour, [HARBOUR], {}),
     (harbours.check_ships, [SHIPS], {}),
@@ -33,6 +42,49 @@ CALLS = [
     (texts.write_plan, [PLAN], {}),
     (texts.read_plan, [HARBOUR, SHIPS, "in 0 berth 0 out 3\nin 4 berth 0 out 8\n"], {}),
     (texts.timetable, [HARBOUR, SHIPS, PLAN], {}),
+    (best.beginning, [SHIPS], {}),
+    (best.moves_in, [HARBOUR, SHIPS, STATE], {"latest": LATEST}),
+    (best.cost_in, [SHIPS, STATE, ((0, -1),)], {}),
+    (best.after_moves, [SHIPS, STATE, ((0, -1),)], {}),
+    (best.rest_of, [HARBOUR, SHIPS, STATE], {"latest": LATEST}),
+    (best.best_moves, [HARBOUR, SHIPS, STATE], {"latest": LATEST}),
+    (best.least_cost, [HARBOUR, SHIPS], {"latest": LATEST}),
+    (best.best_plan, [HARBOUR, SHIPS], {"latest": LATEST}),
+    (best.count_plans, [HARBOUR, SHIPS], {"latest": LATEST}),
+    (best.count_best, [HARBOUR, SHIPS], {"latest": LATEST}),
+    (best.table_of, [HARBOUR, SHIPS], {"latest": LATEST}),
+    (best.is_table, [HARBOUR, SHIPS, best.table_of(HARBOUR, SHIPS)], {"latest": LATEST}),
+    (best.shows_best, [HARBOUR, SHIPS, PLAN, best.table_of(HARBOUR, SHIPS)], {"latest": LATEST}),
+    (best.shows_none, [HARBOUR, SHIPS, best.table_of(HARBOUR, SHIPS)], {"latest": LATEST}),
+    (rules.order_of, [SHIPS, "short"], {}),
+    (rules.plan_by, [HARBOUR, SHIPS, [1, 0]], {}),
+    (rules.price_of, [HARBOUR, SHIPS, [1, 0]], {}),
+    (rules.best_orders, [HARBOUR, SHIPS], {}),
+    (rules.parting, [HARBOUR, SHIPS, [(0, 0, 5), (8, 0, 12)]], {}),
+    (late.check_spans, [SHIPS, SPANS], {}),
+    (late.ships_at, [SHIPS, [1, 2]], {}),
+    (late.comings_of, [SHIPS, SPANS], {}),
+    (late.first_states, [SHIPS, SPANS], {}),
+    (late.moves_of, [HARBOUR, SHIPS, REACHED], {}),
+    (late.cost_of_move, [SHIPS, REACHED, (-1, -1)], {}),
+    (late.is_end, [REACHED, (-1, -1)], {}),
+    (late.states_behind, [HARBOUR, SHIPS, SPANS, REACHED, (-1, -1)], {}),
+    (late.sure_cost, [HARBOUR, SHIPS, SPANS], {}),
+    (late.sure_table, [HARBOUR, SHIPS, SPANS], {}),
+    (late.sure_rule, [HARBOUR, SHIPS, SPANS], {}),
+    (late.is_sure_upper, [HARBOUR, SHIPS, SPANS, SURE], {}),
+    (late.is_sure_lower, [HARBOUR, SHIPS, SPANS, SURE], {}),
+    (late.plan_by, [HARBOUR, SHIPS, RULE, [1, 2]], {}),
+    (late.cost_by, [HARBOUR, SHIPS, RULE, [1, 2]], {}),
+    (late.worst_coming, [HARBOUR, SHIPS, SPANS, RULE], {}),
+    (chances.check_chances, [SHIPS, CHANCES], {}),
+    (chances.spans_of, [CHANCES], {}),
+    (chances.chance_of, [SHIPS, CHANCES, [1, 2]], {}),
+    (chances.mean_cost, [HARBOUR, SHIPS, CHANCES], {}),
+    (chances.mean_table, [HARBOUR, SHIPS, CHANCES], {}),
+    (chances.is_mean_upper, [HARBOUR, SHIPS, CHANCES, MEANS], {}),
+    (chances.is_mean_lower, [HARBOUR, SHIPS, CHANCES, MEANS], {}),
+    (chances.mean_of, [HARBOUR, SHIPS, RULE, CHANCES], {}),
 ]
 
 
@@ -59,9 +111,9 @@ class UnchangedTest(unittest.TestCase):
     def test_arguments_stay_as_they_are(self):
         for function, arguments, more in CALLS:
             with self.subTest(function.__name__):
-                handed = copy.deepcopy(arguments)
-                function(*handed, **more)
-                self.assertEqual(handed, arguments)
+                handed, told = copy.deepcopy((arguments, more))
+                function(*handed, **told)
+                self.assertEqual((handed, told), (arguments, more))
 
     def test_arguments_stay_as_they_are_when_an_error_is_raised(self):
         harbour = ([9, 41, 3], [5, 4], 7, 0, 41)
@@ -71,6 +123,11 @@ class UnchangedTest(unittest.TestCase):
             with self.assertRaises(ValueError):
                 check(value)
         self.assertEqual(handed, (harbour, ships))
+        spans, rows = [0, 4], [[(1, 1)], [(1, 2), (2, 4)]]
+        for check, value in ((late.check_spans, spans), (chances.check_chances, rows)):
+            with self.assertRaises(ValueError):
+                check(SHIPS, value)
+        self.assertEqual((spans, rows), ([0, 4], [[(1, 1)], [(1, 2), (2, 4)]]))
 
     def test_what_is_returned_may_be_changed(self):
         for function, arguments, more in CALLS:
@@ -101,6 +158,21 @@ class UnchangedTest(unittest.TestCase):
         self.assertEqual(harbours.depth_at(harbour, 0), 3)
         self.assertEqual(tides.greatest_wait(harbour, 3), 0)
         self.assertIsNone(tides.soonest(harbour, SHIP))
+
+    def test_a_best_plan_follows_a_changed_argument(self):
+        harbour, ships, latest = copy.deepcopy((HARBOUR, SHIPS, [None, None]))
+        self.assertEqual(best.least_cost(harbour, ships, latest=latest), 10)
+        self.assertEqual(late.sure_cost(harbour, ships, [1, 0]), 18)
+        latest[1] = 7
+        self.assertIsNone(best.least_cost(harbour, ships, latest=latest))
+        self.assertEqual(best.least_cost(harbour, ships), 10)
+        harbour[0][:] = [9]
+        self.assertEqual(best.least_cost(harbour, ships), 6)
+        self.assertEqual(best.best_plan(harbour, ships), [(0, 0, 3), (4, 0, 6)])
+        ships[1] = (1, 4, 8, 1, 2, 9, 2)
+        self.assertEqual(best.best_plan(harbour, ships), [(4, 0, 7), (1, 0, 3)])
+        ships.pop()
+        self.assertEqual(best.best_plan(harbour, ships), [(0, 0, 3)])
 
     def test_the_ships_of_a_clash(self):
         ships = [0, 2]

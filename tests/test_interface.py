@@ -5,7 +5,7 @@ import inspect
 import unittest
 
 from tests.helper import HARBOUR, SHIPS
-from tidewaits import rules
+from tidewaits import bounds, console, needs, promises, rules
 from tidewaits.best import after_moves, best_plan, least_cost, moves_in, shows_best, table_of
 from tidewaits.chances import mean_cost
 from tidewaits.errors import BadText
@@ -93,6 +93,59 @@ FUNCTIONS = {
         "is_mean_lower": ["harbour", "ships", "chances", "rows"],
         "mean_of": ["harbour", "ships", "rule", "chances"],
     },
+    "needs": {
+        "least_tugs": ["harbour", "ships", "*cost"],
+        "least_pilots": ["harbour", "ships", "*cost"],
+        "least_depth": ["harbour", "ships", "*cost"],
+        "tug_steps": ["harbour", "ships"],
+        "pilot_steps": ["harbour", "ships"],
+        "depth_steps": ["harbour", "ships"],
+        "least_pairs": ["harbour", "ships", "*cost"],
+        "added_by": ["harbour", "ships"],
+        "spared_by": ["harbour", "ships"],
+        "greatest_draught": ["harbour", "ships", "ship", "*cost"],
+    },
+    "promises": {
+        "latest_of": ["hours", "names"],
+        "can_keep": ["harbour", "ships", "hours", "names"],
+        "best_keeping": ["harbour", "ships", "hours", "names"],
+        "clashes": ["harbour", "ships", "hours"],
+        "clash_of": ["harbour", "ships", "hours", "names", "ship"],
+        "soonest_hour": ["harbour", "ships", "hours", "names", "ship"],
+        "price_of": ["harbour", "ships", "hours", "names"],
+        "in_turn": ["harbour", "ships", "hours", "order"],
+    },
+    "bounds": {
+        "group_cost": ["harbour", "ships", "names"],
+        "parting_bound": ["harbour", "ships", "groups"],
+        "closest_parting": ["harbour", "ships"],
+        "extra_of": ["harbour", "ships", "ship"],
+        "shortest_day": ["harbour", "ships"],
+        "days_that_pay": ["harbour", "ships"],
+    },
+    "console": {
+        "replay": ["harbour", "ships", "journal"],
+    },
+}
+METHODS = {
+    "__init__": ["self", "harbour", "ships"],
+    "go": ["self", "hour"],
+    "ship": ["self", "ship"],
+    "promise": ["self", "ship", "hour"],
+    "release": ["self", "ship"],
+    "delay": ["self", "ship", "hour"],
+    "undo": ["self"],
+    "redo": ["self"],
+    "do_all": ["self", "deeds"],
+    "what_if": ["self", "deeds"],
+    "harbour": ["self"],
+    "ships": ["self"],
+    "promises": ["self"],
+    "plan": ["self"],
+    "state": ["self"],
+    "cost": ["self"],
+    "journal": ["self"],
+    "__len__": ["self"],
 }
 CLASSES = {
     "TideError": None,
@@ -139,6 +192,17 @@ class NamesTest(unittest.TestCase):
                 self.assertEqual(found.__module__, "tidewaits.errors")
                 if arguments is not None:
                     self.assertEqual(arguments_of(found), arguments)
+
+
+    def test_the_console_has_its_methods_and_properties_itself(self):
+        self.assertEqual(console.Console.__module__, "tidewaits.console")
+        self.assertEqual(arguments_of(console.Console), ["harbour", "ships"])
+        found = vars(console.Console)
+        for name, arguments in METHODS.items():
+            with self.subTest(name):
+                self.assertEqual(arguments_of(found[name]), arguments)
+        for name in ("now", "can_undo", "can_redo"):
+            self.assertIsInstance(found[name], property)
 
 
 class ExamplesTest(unittest.TestCase):
@@ -189,6 +253,32 @@ class ExamplesTest(unittest.TestCase):
 
     def test_chances(self):
         self.assertEqual(mean_cost(HARBOUR, SHIPS, [[(1, 4), (3, 4)], [(1, 1)]]), (16, 1))
+
+    def test_needs(self):
+        ships = [(0, 5, 6, 2, 1, 3, 1)]
+        self.assertEqual((needs.least_tugs(HARBOUR, ships, cost=0), needs.tug_steps(HARBOUR, ships)), (1, [(1, 0)]))
+        self.assertEqual(needs.depth_steps(HARBOUR, [(2, 5, 6, 2, 1, 3, 1)]), [(0, 4), (2, 0)])
+
+    def test_promises(self):
+        found = [promises.clashes(HARBOUR, SHIPS, hours) for hours in ([6, 8], [2, 8])]
+        self.assertEqual(found, [[], [[0]]])
+        self.assertEqual(promises.best_keeping(HARBOUR, SHIPS, [6, 8], [1]), (10, [(0, 0, 3), (4, 0, 8)]))
+        self.assertEqual(promises.soonest_hour(HARBOUR, SHIPS, [6, 8], [1], 0), 3)
+        self.assertEqual(promises.price_of(HARBOUR, SHIPS, [6, 8], [0, 1]), 0)
+        self.assertEqual(promises.in_turn(HARBOUR, SHIPS, [2, 8], [0, 1]), ([1], [(0, [])]))
+
+    def test_bounds(self):
+        self.assertEqual(bounds.group_cost(HARBOUR, SHIPS, [1]), 10)
+        self.assertEqual(bounds.closest_parting(HARBOUR, SHIPS), (10, [[0], [1]]))
+        self.assertEqual(bounds.extra_of(HARBOUR, SHIPS, 0), 0)
+        self.assertEqual(bounds.days_that_pay(HARBOUR, SHIPS), [(8, 10)])
+
+    def test_console(self):
+        found = console.Console(([9, 7, 4, 7], [5], 2, 1, 20), [(0, 5, 6, 2, 1, 3, 1)])
+        told = (found.plan(), found.go(1), found.ship((1, 4, 8, 1, 2, 2, 2)), found.plan())
+        self.assertEqual(told, ([(0, 0, 3)], [(0, 0, 0)], 10, [(0, 0, 3), (4, 0, 8)]))
+        told = (found.promise(1, 8), found.what_if([("delay", 1, 7)]), found.cost())
+        self.assertEqual(told, (0, 6, 10))
 
 
 if __name__ == "__main__":

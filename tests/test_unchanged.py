@@ -4,7 +4,7 @@ import copy
 import unittest
 
 from tests.helper import HARBOUR, PLAN, SHIPS
-from tidewaits import best, chances, harbours, late, rules, texts, tides
+from tidewaits import best, bounds, chances, console, harbours, late, needs, promises, rules, texts, tides
 from tidewaits.errors import Clash
 
 TEXT = "tide 9 7 4 7\nberths 5\ntugs 2\npilots 1\nlast 20\nship 0 5 6 2 1 3 1\nship 1 4 8 1 2 2 2\n"
@@ -13,6 +13,11 @@ LATEST = [None, 12]
 STATE = (3, ((0, 0), (-1, 0)))
 SPANS = [1, 2]
 CHANCES = [[(1, 4), (3, 4)], [(1, 2), (0, 1), (1, 2)]]
+TWO_BERTHS = ([9, 7, 4, 7], [5, 6], 2, 1, 20)
+HOURS = [6, 12]
+# Two ships that cannot both be gone by the hour 4.
+TIGHT = ([9], [9], 3, 3, 9)
+TIGHT_SHIPS = [(0, 1, 0, 1, 0, 1, 1), (0, 1, 0, 1, 0, 1, 1)]
 # A state of ships that come when they come, and what belongs to it.
 REACHED = (0, ((1,), (0,)))
 RULE = late.sure_rule(HARBOUR, SHIPS, SPANS)
@@ -85,7 +90,32 @@ CALLS = [
     (chances.is_mean_upper, [HARBOUR, SHIPS, CHANCES, MEANS], {}),
     (chances.is_mean_lower, [HARBOUR, SHIPS, CHANCES, MEANS], {}),
     (chances.mean_of, [HARBOUR, SHIPS, RULE, CHANCES], {}),
+    (needs.least_tugs, [HARBOUR, SHIPS], {"cost": 10}),
+    (needs.least_pilots, [HARBOUR, SHIPS], {"cost": 10}),
+    (needs.least_depth, [HARBOUR, SHIPS], {"cost": 6}),
+    (needs.tug_steps, [HARBOUR, SHIPS], {}),
+    (needs.pilot_steps, [HARBOUR, SHIPS], {}),
+    (needs.depth_steps, [HARBOUR, SHIPS], {}),
+    (needs.least_pairs, [HARBOUR, SHIPS], {"cost": 10}),
+    (needs.added_by, [HARBOUR, SHIPS], {}),
+    (needs.spared_by, [TWO_BERTHS, SHIPS], {}),
+    (needs.greatest_draught, [HARBOUR, SHIPS, 0], {"cost": 12}),
+    (promises.latest_of, [HOURS, [1]], {}),
+    (promises.can_keep, [HARBOUR, SHIPS, HOURS, [0, 1]], {}),
+    (promises.best_keeping, [HARBOUR, SHIPS, HOURS, [0, 1]], {}),
+    (promises.clashes, [HARBOUR, SHIPS, [2, 7]], {}),
+    (promises.clash_of, [TIGHT, TIGHT_SHIPS, [2, 4], [0], 1], {}),
+    (promises.soonest_hour, [HARBOUR, SHIPS, HOURS, [1], 0], {}),
+    (promises.price_of, [HARBOUR, SHIPS, HOURS, [0, 1]], {}),
+    (promises.in_turn, [TIGHT, TIGHT_SHIPS, [2, 4], [0, 1]], {}),
+    (bounds.group_cost, [HARBOUR, SHIPS, [0, 1]], {}),
+    (bounds.parting_bound, [HARBOUR, SHIPS, [[0], [1]]], {}),
+    (bounds.closest_parting, [HARBOUR, SHIPS], {}),
+    (bounds.extra_of, [HARBOUR, SHIPS, 1], {}),
+    (bounds.shortest_day, [HARBOUR, SHIPS], {}),
+    (bounds.days_that_pay, [HARBOUR, SHIPS], {}),
 ]
+JOURNAL = [("go", 1), ("promise", 1, 9), ("undo",), ("redo",), ("delay", 1, 3), ("ship", (2, *SHIP[1:]))]
 
 
 def spoil(value):
@@ -173,6 +203,32 @@ class UnchangedTest(unittest.TestCase):
         self.assertEqual(best.best_plan(harbour, ships), [(4, 0, 7), (1, 0, 3)])
         ships.pop()
         self.assertEqual(best.best_plan(harbour, ships), [(0, 0, 3)])
+
+    def test_needs_promises_and_bounds_follow_a_changed_argument(self):
+        harbour, ships, hours, names = copy.deepcopy((HARBOUR, SHIPS, [6, 8], [0]))
+        self.assertEqual(needs.least_tugs(harbour, ships, cost=10), 2)
+        self.assertEqual(promises.price_of(harbour, ships, hours, names), 0)
+        self.assertEqual(bounds.shortest_day(harbour, ships), 8)
+        ships.pop()
+        self.assertEqual(needs.least_tugs(harbour, ships, cost=10), 1)
+        self.assertEqual(bounds.shortest_day(harbour, ships), 3)
+        hours[0] = 2
+        self.assertIsNone(promises.price_of(harbour, ships, hours, names))
+        names.pop()
+        self.assertEqual(promises.price_of(harbour, ships, hours, names), 0)
+
+    def test_a_console_leaves_its_arguments_as_they_are(self):
+        handed = copy.deepcopy((HARBOUR, SHIPS, JOURNAL))
+        harbour, ships, journal = handed
+        one, other = console.Console(harbour, ships), console.replay(harbour, ships, journal)
+        one.what_if(journal)
+        one.do_all(journal)
+        self.assertEqual(handed, (HARBOUR, SHIPS, JOURNAL))
+        for found in (one, other):
+            self.assertEqual((found.journal(), found.harbour()), (JOURNAL, HARBOUR))
+        known = lists_in(handed) + lists_in([one.harbour(), one.ships(), one.plan(), one.promises(), one.journal()])
+        for found in lists_in([one.harbour(), one.ships(), one.plan(), one.promises(), one.journal()]):
+            self.assertFalse(any(found is one for one in known))
 
     def test_the_ships_of_a_clash(self):
         ships = [0, 2]

@@ -146,6 +146,21 @@ def best_moves(harbour, ships, state, *, latest=None):
     return [moves for moves, _, _ in _best_steps(levels[0][state], rests[state], rests)]
 
 
+def best_way(harbour, ships, state, *, latest=None):
+    """Return the first of the best moves of each hour, from the state up to an end, or None if its rest is None."""
+    levels = _levels_of(harbour, ships, state, latest)
+    rests = _rests_in(levels)
+    if rests[state] is None:
+        return None
+    found = []
+    reached = state
+    while not _is_end(reached):
+        moves, _, behind = _best_steps(levels[len(found)][reached], rests[reached], rests)[0]
+        found.append(moves)
+        reached = behind[0]
+    return found
+
+
 def _best_levels(harbour, ships, latest):
     """Return the states that best plans come to, hour by hour, with the steps of the best plans."""
     start = beginning(ships)

@@ -21,3 +21,8 @@ def is_at_most(one, other):
     if other is None:
         return True
     return one is not None and one <= other
+
+
+def total_of(numbers):
+    """Return the sum of the numbers, None if one of them is None."""
+    return None if None in numbers else sum(numbers)
